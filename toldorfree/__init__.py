@@ -1,0 +1,1 @@
+"""Tables in which every column is told wholly or left free."""
