@@ -1,0 +1,173 @@
+"""Tables for the tests, and the words of the document said again in the plainest way."""
+
+import random
+from itertools import combinations, permutations, product
+
+from toldorfree.groups import Group
+from toldorfree.naming import Renaming, renamed
+from toldorfree.tables import Table
+
+# what is an integer to Python or near one, but none in the document
+NO_INTEGERS = (True, False, None, 1.0, "1", (1,), [1])
+# what is neither a list nor a tuple
+NO_LISTS = (None, 3, "01", {0: 1}, {0, 1}, True)
+
+
+def all_lots(columns):
+    """All lots in lot order."""
+    return [lot for size in range(columns + 1) for lot in combinations(range(columns), size)]
+
+
+def parts(table, lot):
+    return {tuple(row[column] for column in sorted(lot)) for row in table.rows}
+
+
+def plain_tells(table, lot, column):
+    return all(one[column] == other[column] for one in table.rows for other in table.rows
+               if all(one[place] == other[place] for place in lot))
+
+
+def plain_free(table, lot, column):
+    found = {(tuple(row[place] for place in lot), row[column]) for row in table.rows}
+    return all((part, sign) in found for part in parts(table, lot) for sign in range(table.signs))
+
+
+def plain_fair(table):
+    return all(plain_tells(table, lot, column) or plain_free(table, lot, column)
+               for lot in all_lots(table.columns) for column in range(table.columns))
+
+
+def plain_full(table, lot):
+    return len(parts(table, lot)) == table.signs ** len(lot)
+
+
+def smaller(lot):
+    return [part for size in range(len(lot)) for part in combinations(lot, size)]
+
+
+def plain_circuits(table):
+    return [lot for lot in all_lots(table.columns)
+            if not plain_full(table, lot) and all(plain_full(table, part) for part in smaller(lot))]
+
+
+def plain_latin(table):
+    return (len(table.rows) == table.signs ** (table.columns - 1)
+            and all(plain_full(table, lot) for lot in combinations(range(table.columns), table.columns - 1)))
+
+
+def plain_rank(table, lot):
+    many = len(parts(table, lot))
+    return [rank for rank in range(9) if table.signs ** rank == many][0]
+
+
+def plain_power(number, base):
+    return number in [base ** exponent for exponent in range(20)]
+
+
+def square(signs, times):
+    """The table of the rows (x, y, times(x, y))."""
+    return Table(signs, [(x, y, times(x, y)) for x in range(signs) for y in range(signs)])
+
+
+def square_of(group):
+    return square(group.size, group.times)
+
+
+def ring(group, columns):
+    """The rows of so many elements whose product is the unit."""
+    return Table(group.size, [row + (group.inverse(group.product_of(row)),)
+                              for row in product(range(group.size), repeat=columns - 1)])
+
+
+def bent(columns, bends):
+    """The bent table of the document with these bends."""
+    rows = []
+    for row in product(range(4), repeat=columns - 1):
+        high = sum(sign // 2 for sign in row) % 2
+        low = sum(sign % 2 for sign in row)
+        low += sum(all(row[column] // 2 for column in bend) for bend in bends)
+        rows.append(row + (2 * high + low % 2,))
+    return Table(4, rows)
+
+
+def four_points(group):
+    """The rows of the quotients of four elements, for the six pairs of them."""
+    pairs = [(0, 1), (0, 2), (0, 3), (1, 2), (1, 3), (2, 3)]
+    return Table(group.size, list({tuple(group.times(group.inverse(four[i]), four[j]) for i, j in pairs)
+                                   for four in product(range(group.size), repeat=4)}))
+
+
+def line(signs, columns):
+    """Rows (x, y, x + y, x + 2*y, ..) mod a prime."""
+    return Table(signs, [((x, y) + tuple((x + k * y) % signs for k in range(1, signs)))[:columns]
+                         for x in range(signs) for y in range(signs)])
+
+
+def shuffled(table, seed):
+    """The table with the signs of each column renamed."""
+    chance = random.Random(seed)
+    return renamed(table, Renaming([chance.sample(range(table.signs), table.signs) for _ in range(table.columns)]))
+
+
+def every_table(signs, columns):
+    """All tables of so many signs and columns."""
+    rows = list(product(range(signs), repeat=columns))
+    return [Table(signs, some) for many in range(1, len(rows) + 1) for some in combinations(rows, many)]
+
+
+def nearly_parity(signs, rank):
+    """The table of [11] for rank >= 2: the sums of the other signs, but 1 in the row of zeros."""
+    return Table(signs, [row + (sum(row) % signs if any(row) else 1,) for row in product(range(signs), repeat=rank)])
+
+
+def nearly_full(signs):
+    """The table of [11] for r = 1."""
+    return Table(signs, [(0, 1)] + [(sign, sign) for sign in range(1, signs)])
+
+
+FOUR = Group.sums(4)
+KLEIN = Group.sums(2) * Group.sums(2)
+GROUPS = {"2": Group.sums(2), "3": Group.sums(3), "4": FOUR, "klein": KLEIN, "5": Group.sums(5),
+          "6": Group.sums(6), "turns": Group.turns()}
+
+# fair tables of at most 81 rows, with full ones, Latin cubes, copies, fixed columns and parts beside one another
+FAIR = (
+    Table.full(2, 1), Table.full(3, 1), Table.full(36, 1), Table.full(2, 2), Table.full(3, 2), Table.full(2, 6),
+    Table(2, [(1,)]), Table(36, [(35,)]), Table(3, [(2, 0, 1)]), Table(2, [(0, 1, 0, 1, 0, 1, 0, 1)]),
+    Table(2, [(0, 1), (1, 0)]), Table(2, [(0, 0, 1, 1), (1, 0, 0, 1)]), Table(5, [(k, 4, k, 4 - k) for k in range(5)]),
+    Table.parity(2, 1), Table.parity(2, 2), Table.parity(2, 3), Table.parity(2, 4), Table.parity(2, 7),
+    Table.parity(3, 3), Table.parity(3, 4), Table.parity(4, 3), Table.parity(5, 3), Table.parity(9, 3),
+    square_of(KLEIN), square_of(Group.turns()), shuffled(square_of(Group.turns()), 5), ring(FOUR, 4), ring(KLEIN, 4),
+    bent(4, [(0, 1, 2)]), bent(4, [(0, 1)]), four_points(Group.sums(2)), four_points(Group.sums(3)),
+    line(3, 4), line(5, 6), line(7, 8), line(5, 6).moved((5, 2, 0, 4, 1, 3)), line(5, 4),
+    Table.parity(2, 3) + Table.parity(2, 2), Table.parity(3, 3) + Table.full(3, 1) + Table(3, [(1,)]),
+    Table.parity(2, 3).with_copy(1).with_copy(0), Table.parity(3, 3).with_copy(2).moved((3, 0, 2, 1)),
+    Table.full(2, 2).with_copy(0).with_copy(1).with_copy(0) + Table(2, [(1,)]),
+    Table.parity(2, 3) * Table.parity(3, 3), Table.parity(2, 4) - (2,), Table.parity(2, 5).part_table((0, 1, 2, 3)),
+    Table(2, [(x, y, z, x ^ y, x ^ z, y ^ z, x ^ y ^ z) for x, y, z in product(range(2), repeat=3)]),
+    Table(2, [(x, y, z, w, x ^ y, y ^ z, z ^ w, w ^ x) for x, y, z, w in product(range(2), repeat=4)]),
+    Table(3, [(x, y, z, (x + y) % 3, (x + 2 * y) % 3, (y + z) % 3, (x + y + z) % 3, x)
+              for x, y, z in product(range(3), repeat=3)]),
+)
+
+UNFAIR = (
+    Table(2, [(0, 0), (0, 1), (1, 0)]), Table(3, [(0,), (1,)]), Table(3, [(0, 0), (1, 1)]),
+    nearly_parity(2, 2), nearly_parity(2, 3), nearly_parity(3, 2), nearly_parity(4, 2), nearly_parity(2, 4),
+    nearly_full(3), nearly_full(4), nearly_full(7),
+    Table(4, [(0,), (2,)]), Table(6, [(0,), (2,), (4,)]),
+    Table(2, Table.full(2, 3).rows[:5]), Table(3, Table.parity(3, 3).rows[:8]),
+    Table(2, [(0, 0, 0), (0, 1, 1), (1, 0, 0), (1, 1, 0)]),
+    Table(4, [(x, y, (x + y) % 4, x ^ y) for x in range(4) for y in range(4)]),
+    Table.parity(2, 3) + Table(2, [(0, 0), (0, 1), (1, 1)]),
+)
+
+
+def bases_plainly(table):
+    """The full lots that tell all columns, by their part-rows."""
+    return [lot for lot in all_lots(table.columns)
+            if plain_full(table, lot) and len(parts(table, lot)) == len(table.rows)]
+
+
+def renamings_plainly(signs, columns):
+    """All renamings of so many signs and columns."""
+    return [Renaming(names) for names in product(permutations(range(signs)), repeat=columns)]

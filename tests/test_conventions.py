@@ -1,0 +1,122 @@
+"""[1] for every call: results are tuples, arguments stay, and equal arguments give equal results."""
+
+import copy
+import unittest
+
+from tests.asking import Asking
+from tests.samples import FAIR, KLEIN, UNFAIR
+from toldorfree.breaks import (Break, fair_up_to, find_break, is_break, least_tellers, needed_for, seen_by_all,
+                               table_circuits)
+from toldorfree.circuits import (bases_of, circuit_in, circuits_of, connecting_circuit, equal_columns, fixed_columns,
+                                 least_base)
+from toldorfree.duals import dual_count, dual_spectrum, turned
+from toldorfree.fairness import is_fair, is_full, is_latin, leaves_free, power_of, sees, told_by, tells
+from toldorfree.gaps import gap_bound, least_gap, near_one, rows_apart
+from toldorfree.groups import Group
+from toldorfree.lots import common, lot_of, lots_of, minus, plus, rest_of
+from toldorfree.matching import equal_up_to_names, keeps, renaming_between
+from toldorfree.naming import Renaming, renamed
+from toldorfree.ranks import Ranks, closed_lots, hanging_parts, hangs_together
+from toldorfree.rebuilding import base_parts, rebuilt, rows_fitting
+from toldorfree.spectra import alike_just, rank_alike, rank_spectrum, spectrum
+from toldorfree.sums import cubes_of, is_sum_closed
+from toldorfree.tables import Table
+from toldorfree.texts import table_from, table_text
+from toldorfree.together import least_many, rank_tuples, tuples_just
+
+TABLE = Table.parity(3, 3).with_copy(1)
+ROW = [0, 1, 2, 1]
+RANKS = Ranks(TABLE)
+SAME = Renaming.same(3, 4)
+BREAK = Break([1], [2], [0, 0], [1, 1])
+CALLS = (
+    (lot_of, [2, 0], 3), (rest_of, [2, 0], 3), (plus, [2, 0], [1], 3), (common, [2, 0], [2], 3), (minus, [2, 0], [2], 3),
+    (Table, 2, [[0, 1], [1, 1]]), (Table.alike, [0, 1], [0, 2]), (TABLE.part_rows, [2, 0]), (TABLE.rows_with, [2, 0], [1, 1]),
+    (TABLE.number_of, ROW), (TABLE.part_table, [2, 0]), (TABLE.moved, [3, 1, 0, 2]), (TABLE.with_copy, 2),
+    (lambda lot: TABLE - lot, [1, 0]), (lambda row: row in TABLE, ROW), (table_text, TABLE),
+    (table_from, "signs 2 columns 1\n1"), (Renaming, [[1, 0], [0, 1]]), (SAME, ROW), (renamed, TABLE, SAME),
+    (sees, TABLE, [2, 0], 1), (tells, TABLE, [2, 0], 1), (leaves_free, TABLE, [2], 1), (told_by, TABLE, [3, 0]),
+    (is_full, TABLE, [2, 0]), (is_fair, TABLE), (is_latin, TABLE), (power_of, 9, 3), (table_circuits, UNFAIR[0]),
+    (is_break, UNFAIR[2], BREAK), (fair_up_to, UNFAIR[0], 1), (seen_by_all, TABLE, 1), (least_tellers, TABLE, 1),
+    (needed_for, TABLE, 1), (Ranks, TABLE), (RANKS.rank, [2, 0]), (RANKS.told, [3, 0]), (RANKS.is_closed, [3, 0]),
+    (RANKS.meet_number, [2, 0], [3, 1]), (RANKS.is_modular, [2, 0], [3, 1]), (hanging_parts, TABLE),
+    (hangs_together, TABLE), (circuits_of, TABLE), (bases_of, TABLE), (least_base, TABLE), (circuit_in, TABLE, [3, 0], 2),
+    (fixed_columns, TABLE), (equal_columns, TABLE), (connecting_circuit, TABLE, 0, 2),
+    (rows_fitting, 3, 3, [[[2, 0], Table.parity(3, 2)], ([1], Table.full(3, 1))]), (base_parts, TABLE, [3, 0]),
+    (rebuilt, TABLE, [3, 0]), (renaming_between, TABLE, TABLE), (equal_up_to_names, TABLE, TABLE), (keeps, TABLE, SAME),
+    (Group, [[0, 1], [1, 0]]), (KLEIN.product_of, [3, 1, 2]), (KLEIN.generated, [3, 1]), (KLEIN.is_normal, [1, 0]),
+    (KLEIN.subgroups,), (KLEIN.normal_subgroups,), (KLEIN.commutators,), (KLEIN.automorphisms,),
+    (KLEIN.isomorphism_to, KLEIN), (is_sum_closed, TABLE), (cubes_of, 3, 3), (rows_apart, TABLE, TABLE),
+    (gap_bound, TABLE, TABLE), (least_gap, TABLE), (near_one, [[0, 0, 0], [1]], [Table.parity(2, 3), Table.parity(2, 3)]),
+    (spectrum, TABLE, ROW), (rank_spectrum, 2, RANKS), (alike_just, TABLE, ROW, [3, 1]), (rank_alike, 2, RANKS, [3, 1]),
+    (tuples_just, TABLE, ROW, [3, 1], 2), (rank_tuples, 2, RANKS, [3, 1], 2), (least_many, 2, RANKS),
+    (dual_count, 2, RANKS, [3, 1]), (dual_spectrum, 2, RANKS), (turned, 3, [1, 0, 6, 2]),
+)
+QUESTIONS = (is_fair, is_latin, hangs_together, equal_up_to_names, keeps, is_sum_closed, tells, leaves_free, is_full,
+             is_break, fair_up_to, seen_by_all, RANKS.is_closed, RANKS.is_modular, KLEIN.is_normal)
+
+
+def written(value):
+    """The value with what its objects hold in the place of the objects."""
+    if isinstance(value, (list, tuple)):
+        return [value.__class__] + [written(part) for part in value]
+    if isinstance(value, (Table, Renaming, Group, Ranks, Break)):
+        return [value.__class__, repr([(name, written(part)) for name, part in sorted(vars(value).items())])]
+    return value
+
+
+class ConventionsTest(Asking):
+    def test_results_are_tuples(self):
+        for call, *values in CALLS:
+            self.is_tuples(call(*values))
+
+    def test_arguments_and_tables_stay(self):
+        before = [written(value) for value in (TABLE, RANKS, SAME, KLEIN, BREAK)]
+        for call, *values in CALLS:
+            kept = written(copy.deepcopy(values))
+            call(*values)
+            self.assertEqual(written(values), kept, call)
+        self.assertEqual([written(value) for value in (TABLE, RANKS, SAME, KLEIN, BREAK)], before)
+
+    def test_equal_arguments_give_equal_results(self):
+        for call, *values in CALLS:
+            self.assertEqual(written(call(*copy.deepcopy(values))), written(call(*values)), call)
+
+    def test_lists_and_tuples_say_the_same(self):
+        for call, *values in CALLS:
+            fixed = [tuple(tuple(part) if isinstance(part, list) else part for part in value)
+                     if isinstance(value, list) else value for value in values]
+            self.assertEqual(written(call(*fixed)), written(call(*values)), call)
+
+    def test_questions_are_answered_by_true_or_false(self):
+        for call, *values in CALLS:
+            if call in QUESTIONS:
+                self.assertIsInstance(call(*values), bool)
+        for table in FAIR[:3] + UNFAIR[:3]:
+            for call in (is_fair, is_latin, is_sum_closed):
+                self.assertIsInstance(call(table), bool)
+        self.assertIsInstance(KLEIN.is_abelian(), bool)
+        self.assertIsInstance(KLEIN.has_exponent_two(), bool)
+
+    def test_objects_stay_when_lists_change(self):
+        rows, names, lines = [[0, 1], [1, 1]], [[1, 0], [0, 1]], [[0, 1], [1, 0]]
+        made = (Table(2, rows), Renaming(names), Group(lines))
+        before = [written(value) for value in made]
+        for lists in (rows, names, lines):
+            lists[0][0], lists[0][1] = lists[0][1], lists[0][0]
+            lists.append(lists[0])
+        self.assertEqual([written(value) for value in made], before)
+
+    def test_breaks_are_found_alike(self):
+        for table in UNFAIR:
+            self.assertEqual(written(find_break(table)), written(find_break(Table(table.signs, table.rows))))
+
+    def test_generators(self):
+        self.assertEqual(list(lots_of(3)), list(lots_of(3)))
+        self.assertEqual(list(closed_lots(TABLE)), list(closed_lots(TABLE)))
+        for lot in list(lots_of(3)) + list(closed_lots(TABLE)):
+            self.assertIsInstance(lot, tuple)
+
+
+if __name__ == "__main__":
+    unittest.main()
