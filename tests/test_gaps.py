@@ -151,6 +151,9 @@ class NearTest(Asking):
         for entry in (UNFAIR[3], None, cube.rows):
             self.wrong(BadRow, "place", 0, near_one, [], [entry, cube])
         self.wrong(BadRow, "place", 2, near_one, cube.rows, (cube, cube, UNFAIR[3]))
+        for other in (Table.full(2, 3), Table.parity(3, 3)):
+            self.wrong(BadRow, "place", 1, near_one, [], [cube, other])
+            self.wrong(BadRow, "place", 2, near_one, [], [cube, cube, other, other])
 
     def test_example(self):
         cubes = cubes_of(3, 3)

@@ -71,6 +71,7 @@ class MakingTest(Asking):
             self.wrong(BadGroup, "place", 0, Group, [line, 3])
             self.wrong(BadGroup, "place", 1, Group, [(1, 0), line])
         self.wrong(BadGroup, "place", 1, Group, [(0, 1), (0, 1)])
+        self.wrong(BadGroup, "place", 1, Group, [(0, 1), (1, 0, 1)])
         self.wrong(BadGroup, "place", 2, Group, [(0, 1, 2), (1, 2, 0), (2, 1, 0)])
         self.wrong(BadGroup, "place", 2, Group, [(0, 1, 2), (1, 2, 0), (0, 1, 2)])
 

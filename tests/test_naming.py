@@ -32,6 +32,7 @@ class NamingTest(Asking):
         self.wrong(BadNames, "column", 0, Renaming, [tuple(range(37))])
         self.wrong(BadNames, "column", 2, Renaming, [(0, 1, 2), (1, 0, 2), (0, 1), (0, 0, 0)])
         self.wrong(BadNames, "column", 1, Renaming, [(0, 1), (0, 1, 2)])
+        self.wrong(BadNames, "column", 1, Renaming, [(0, 1), (0, 1, 0)])
 
     def test_same(self):
         for signs, columns in ((2, 1), (36, 8), (5, 3)):

@@ -207,6 +207,7 @@ class TablesOfTablesTest(Asking):
         self.assertEqual((SMALL * Table.full(12, 2)).signs, 36)
         self.wrong(TooMany, "limit", 1300, lambda: Table.full(6, 3) * Table.full(6, 3))
         self.wrong(BadNumber, "name", "signs", lambda: Table.full(36, 2) * Table.full(36, 2))
+        self.wrong(BadNumber, "name", "signs", lambda: Table.full(7, 2) * Table.full(7, 2))
 
     def test_operators_with_other_values(self):
         for value in (3, "x", (0,), None):

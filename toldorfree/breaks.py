@@ -55,11 +55,12 @@ def code_of(part, signs):
 def least_pair(table, lot):
     """The least pair of rows that are unlike at exactly one column of the circuit lot."""
     groups = rows_by_parts(table, lot)
-    for number, row in enumerate(table.rows):
-        later = [partner for column in lot for partner in groups[key_without(row, lot, column)]
-                 if partner > number and table.rows[partner][column] != row[column]]
-        if later:
-            return (row, table.rows[min(later)])
+    for row in table.rows:
+        partners = [number for column in lot for number in groups[key_without(row, lot, column)]
+                    if table.rows[number][column] != row[column]]
+        if partners:
+            # no earlier row has a partner, so all of these come behind
+            return (row, table.rows[min(partners)])
     return None
 
 

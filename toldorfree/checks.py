@@ -37,6 +37,11 @@ def is_permutation(names, many):
     return are_signs(names, many) and len(names) == many and len(set(names)) == many
 
 
+def agree_somewhere(one, other):
+    """Whether two rows of one length have the same entry at some place."""
+    return any([x == y for x, y in zip(one, other)])
+
+
 def check_signs(signs):
     """Raise BadNumber("signs") unless signs is a possible number of signs."""
     if not is_within(signs, 2, MOST_SIGNS):

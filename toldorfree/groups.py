@@ -1,6 +1,6 @@
 """Groups of at most 12 elements, by their tables of products."""
 
-from toldorfree.checks import are_signs, is_listed, is_permutation, is_within
+from toldorfree.checks import agree_somewhere, are_signs, is_listed, is_permutation, is_within
 from toldorfree.errors import BadGroup, BadLot, BadNumber
 from toldorfree.lots import lot_below, lot_key
 
@@ -13,15 +13,10 @@ def check_products(products):
         raise BadGroup(-1)
     size = len(products)
     for place, line in enumerate(products):
-        if not is_permutation(line, size) or any([meets_line(line, other) for other in products[:place]]):
+        if not is_permutation(line, size) or any([agree_somewhere(line, other) for other in products[:place]]):
             raise BadGroup(place)
     if not is_associative(products):
         raise BadGroup(size)
-
-
-def meets_line(one, other):
-    """Whether two lines have the same entry at some column."""
-    return any([x == y for x, y in zip(one, other)])
 
 
 def is_associative(products):

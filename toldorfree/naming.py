@@ -47,10 +47,10 @@ class Renaming:
             raise BadRow(-1)
         return renamed_row(self.names, row)
 
-    def __getitem__(self, column):
-        if not is_within(column, 0, self.columns - 1):
+    def __getitem__(self, at):
+        if not is_within(at, 0, self.columns - 1):
             raise BadNumber("column")
-        return self.names[column]
+        return self.names[at]
 
     def __iter__(self):
         return iter(self.names)

@@ -64,7 +64,7 @@ def hanging_parts(table):
     """The finest parting of all columns in lots whose ranks add up to the total."""
     ranks = Ranks(table)
     loose = [lot for lot in lots_of(table.columns)
-             if lot and ranks.rank(lot) + ranks.rank(rest_of(lot, table.columns)) == ranks.total]
+             if ranks.rank(lot) + ranks.rank(rest_of(lot, table.columns)) == ranks.total]
     # of the lots with a column that can stand alone, the part of the column is the first one
     found = [[lot for lot in loose if column in lot][0] for column in range(table.columns)]
     return tuple([lot for column, lot in enumerate(found) if lot[0] == column])

@@ -1,6 +1,6 @@
 """Sums of three rows, and all Latin cubes of a size."""
 
-from toldorfree.checks import check_signs, is_within
+from toldorfree.checks import agree_somewhere, check_signs, is_within
 from toldorfree.errors import BadNumber, TooMany
 from toldorfree.tables import Table, all_rows
 
@@ -10,9 +10,9 @@ MOST_CUBES = 600
 def is_sum_closed(table):
     """Whether the table holds x - y + z, sign by sign, for all its rows x, y, z."""
     first = table.rows[0]
-    steps = {difference(row, first, table.signs): True for row in table.rows}
+    steps = {row_minus(row, first, table.signs): True for row in table.rows}
     # x - y + z stays in the table exactly if the differences from its first row are a group
-    reached = {difference(first, first, table.signs): True}
+    reached = {row_minus(first, first, table.signs): True}
     for step in steps:
         if step not in reached:
             reached = with_multiples(list(reached), step, table.signs)
@@ -21,7 +21,7 @@ def is_sum_closed(table):
     return True
 
 
-def difference(one, other, signs):
+def row_minus(one, other, signs):
     """The row of the differences of two rows."""
     return tuple([(x - y) % signs for x, y in zip(one, other)])
 
@@ -51,17 +51,15 @@ def cubes_of(signs, columns):
 
 
 def pile_layers(layers, cubes, below, found):
-    """Put all larger cubes into found that have the signs of below and so many layers more above."""
+    """Put all larger cubes into found that have the signs of below and so many layers more above.
+
+    A cube is written as its last signs, so cubes with a common row are those that agree somewhere.
+    """
     if layers == 0:
         if len(found) == MOST_CUBES:
             raise TooMany(MOST_CUBES)
         found.append(below)
         return
     for cube in cubes:
-        rest = [other for other in cubes if not meets_cube(other, cube)]
+        rest = [other for other in cubes if not agree_somewhere(other, cube)]
         pile_layers(layers - 1, rest, below + cube, found)
-
-
-def meets_cube(one, other):
-    """Whether two cubes, written as their last signs, have a common row."""
-    return any([x == y for x, y in zip(one, other)])

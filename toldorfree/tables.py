@@ -144,19 +144,19 @@ class Table:
             tuple([high * other.signs + low for high, low in zip(one, two)])
             for one in self.rows for two in other.rows])
 
-    def __sub__(self, lot):
-        stay = rest_of(lot, self.columns)
+    def __sub__(self, other):
+        stay = rest_of(other, self.columns)
         if not stay:
             raise BadLot(-1)
         return Table(self.signs, self.part_rows(stay))
 
-    def __contains__(self, row):
-        return are_signs(row, self.signs) and tuple(row) in self._numbers
+    def __contains__(self, x):
+        return are_signs(x, self.signs) and tuple(x) in self._numbers
 
-    def __getitem__(self, number):
-        if not is_within(number, 0, len(self.rows) - 1):
+    def __getitem__(self, at):
+        if not is_within(at, 0, len(self.rows) - 1):
             raise BadNumber("number")
-        return self.rows[number]
+        return self.rows[at]
 
     def __eq__(self, other):
         return isinstance(other, Table) and self.signs == other.signs and self.rows == other.rows
