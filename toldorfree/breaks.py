@@ -124,7 +124,11 @@ def seen_by_all(table, column):
 
 def least_tellers(table, column):
     """The lots without column that tell it and hold no smaller such lot, in lot order."""
-    views = views_of(table, column)
+    return least_telling(views_of(table, column))
+
+
+def least_telling(views):
+    """The lots that tell and hold no smaller lot that does, given how each lot sees something."""
     found = []
     for lot in views:
         if views[lot] == "tells" and not any([is_part(teller, lot) for teller in found]):

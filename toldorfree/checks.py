@@ -1,4 +1,4 @@
-"""Questions about arguments that several modules ask."""
+"""What several modules ask of their arguments, number and count."""
 
 from toldorfree.errors import BadNumber, OtherColumns, OtherSigns
 
@@ -74,3 +74,11 @@ def power(base, exponent):
     for _ in range(exponent):
         found = found * base
     return found
+
+
+def numbers_of(marks):
+    """For each place the number of its mark; the different marks are numbered in the order of their first places."""
+    numbers = {}
+    for mark in marks:
+        numbers.setdefault(mark, len(numbers))
+    return tuple([numbers[mark] for mark in marks])

@@ -11,18 +11,22 @@ def count_parts(table, lot):
     return len(set([part_of(row, lot) for row in table.rows]))
 
 
-def part_counts(table):
-    """The number of part-rows on each lot: a dict by lots, in lot order."""
+def part_codes(table):
+    """For each lot an integer for each row, equal for rows that are alike on it: a dict by lots, in lot order."""
     codes = {}
-    counts = {}
     for lot in lots_of(table.columns):
         if lot:
-            # one integer for each part-row, made of the one for the lot without its last column
+            # made of the integers for the lot without its last column
             codes[lot] = [code * table.signs + row[lot[-1]] for code, row in zip(codes[lot[:-1]], table.rows)]
         else:
             codes[lot] = [0] * len(table.rows)
-        counts[lot] = len(set(codes[lot]))
-    return counts
+    return codes
+
+
+def part_counts(table):
+    """The number of part-rows on each lot: a dict by lots, in lot order."""
+    codes = part_codes(table)
+    return {lot: len(set(codes[lot])) for lot in codes}
 
 
 def circuits_by(counts, signs):

@@ -32,6 +32,15 @@ def lot_key(lot):
     return (len(lot), lot)
 
 
+def choices_of(many, size):
+    """All ascending tuples of size numbers below many, ascending."""
+    found = [()]
+    for place in range(size):
+        # a number is left out if too few would be left for the places behind it
+        found = [lot + (number,) for lot in found for number in range(after(lot), many - size + place + 1)]
+    return found
+
+
 def lot_of(lot, columns):
     """The lot as an ascending tuple."""
     check_columns(columns)

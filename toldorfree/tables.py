@@ -11,12 +11,17 @@ def part_of(row, lot):
     return tuple([row[column] for column in lot])
 
 
+def all_choices(lists):
+    """All tuples with one entry of each of the lists, ascending if the lists ascend."""
+    found = [()]
+    for entries in lists:
+        found = [begin + (entry,) for begin in found for entry in entries]
+    return found
+
+
 def all_rows(signs, columns):
     """All rows of so many signs and columns, ascending."""
-    rows = [()]
-    for _ in range(columns):
-        rows = [row + (sign,) for row in rows for sign in range(signs)]
-    return rows
+    return all_choices([list(range(signs))] * columns)
 
 
 def checked_rows(signs, rows):
