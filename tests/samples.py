@@ -27,6 +27,14 @@ def plain_tells(table, lot, column):
                if all(one[place] == other[place] for place in lot))
 
 
+def plain_told(table, lot, parting):
+    """Whether rows that are alike on lot have the same sign in the parting."""
+    signs = {}
+    for row, sign in zip(table, parting):
+        signs.setdefault(tuple(row[column] for column in lot), set()).add(sign)
+    return all(len(some) == 1 for some in signs.values())
+
+
 def plain_free(table, lot, column):
     found = {(tuple(row[place] for place in lot), row[column]) for row in table.rows}
     return all((part, sign) in found for part in parts(table, lot) for sign in range(table.signs))
@@ -115,6 +123,57 @@ def every_table(signs, columns):
     return [Table(signs, some) for many in range(1, len(rows) + 1) for some in combinations(rows, many)]
 
 
+def glue_plainly(one, column, other, second, names):
+    """The rows of one and other side by side, without the two columns at which names lead the one sign to the other."""
+    return Table(one.signs, [early[:column] + early[column + 1:] + late[:second] + late[second + 1:]
+                             for early in one for late in other if names[early[column]] == late[second]])
+
+
+def drawn(signs, seed):
+    """A drawn permutation of the signs."""
+    return random.Random(seed).sample(range(signs), signs)
+
+
+def plain_classes(table, one, other):
+    """The number of the class of each row, by steps from row to row."""
+    found = {}
+    for start in range(table.many):
+        if start not in found:
+            number = len(set(found.values()))
+            queue = [start]
+            found[start] = number
+            while queue:
+                row = table.rows[queue.pop()]
+                for place, step in enumerate(table.rows):
+                    if place not in found and (alike_on(row, step, one) or alike_on(row, step, other)):
+                        found[place] = number
+                        queue.append(place)
+    return tuple(found[place] for place in range(table.many))
+
+
+def alike_on(row, other, lot):
+    return all(row[column] == other[column] for column in lot)
+
+
+def plain_meet(table, one, other):
+    both = set(one) | set(other)
+    return plain_rank(table, one) + plain_rank(table, other) - plain_rank(table, both)
+
+
+def pairs_of_lots(columns, many, seed):
+    """Pairs of lots: the edges, some pairs with their rests, and drawn ones."""
+    chance = random.Random(seed)
+    lots = all_lots(columns)
+    whole = lots[-1]
+    found = [((), ()), ((), whole), (whole, ()), (whole, whole), ((0,), whole), (whole[:1], whole[1:])]
+    for number in range(many):
+        # both sides of what may be a cut, and any lots
+        one = chance.choice([lot for lot in lots if 2 <= len(lot) <= columns - 2] or lots)
+        rest = tuple(column for column in whole if column not in one)
+        found.append((one, rest) if number % 2 == 0 else (chance.choice(lots), chance.choice(lots)))
+    return found
+
+
 def nearly_parity(signs, rank):
     """The table of [11] for rank >= 2: the sums of the other signs, but 1 in the row of zeros."""
     return Table(signs, [row + (sum(row) % signs if any(row) else 1,) for row in product(range(signs), repeat=rank)])
@@ -159,6 +218,28 @@ UNFAIR = (
     Table(2, [(0, 0, 0), (0, 1, 1), (1, 0, 0), (1, 1, 0)]),
     Table(4, [(x, y, (x + y) % 4, x ^ y) for x in range(4) for y in range(4)]),
     Table.parity(2, 3) + Table(2, [(0, 0), (0, 1), (1, 1)]),
+)
+
+# a square of 5 signs that is no group's: each sign undoes itself
+LOOP = ((0, 1, 2, 3, 4), (1, 0, 3, 4, 2), (2, 4, 0, 1, 3), (3, 2, 4, 0, 1), (4, 3, 1, 2, 0))
+FIVE = square(5, lambda x, y: LOOP[x][y])
+# the bent table in which the lots (0, 1) and (2, 3) do not meet
+BENT = bent(4, [(0, 1, 2)])
+
+# fair tables of at most 512 rows in which not all lots meet, or that are made of others
+SORTS = (
+    FIVE, shuffled(FIVE, 1), glue_plainly(FIVE, 2, FIVE, 0, drawn(5, 1)),
+    glue_plainly(square_of(FOUR), 2, square_of(FOUR), 0, drawn(4, 2)),
+    glue_plainly(square_of(FOUR), 1, square_of(KLEIN), 2, drawn(4, 3)),
+    glue_plainly(square_of(GROUPS["5"]), 0, FIVE, 1, drawn(5, 4)).moved((2, 0, 3, 1)),
+    ring(GROUPS["turns"], 4), ring(FOUR, 4), shuffled(ring(KLEIN, 4), 6).moved((1, 3, 0, 2)), ring(GROUPS["2"], 7),
+    BENT, bent(4, [(0, 1)]), bent(4, [()]), shuffled(bent(4, [(0, 1, 2), (1,)]), 7), bent(5, [(0, 1)]),
+    bent(5, [(0, 1, 2), (1, 2, 3)]), four_points(KLEIN), four_points(FOUR), shuffled(four_points(GROUPS["3"]), 8),
+    four_points(GROUPS["turns"]).moved((4, 2, 0, 5, 1, 3)), line(5, 6), line(7, 4),
+    square_of(GROUPS["3"]) * square_of(KLEIN), bent(3, [(0, 1)]) * Table.parity(3, 3), ring(GROUPS["2"], 4) * bent(4, []),
+    BENT.with_copy(1) + Table(4, [(2,)]), BENT - (1,),
+    Table(5, [(3,)]) + FIVE.with_copy(2), (BENT + Table.full(4, 1)).moved((4, 1, 3, 0, 2)),
+    Table(6, [(k, 4, k, 5 - k) for k in range(6)]), Table(4, [(3, 0, 3)]),
 )
 
 

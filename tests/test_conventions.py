@@ -4,31 +4,51 @@ import copy
 import unittest
 
 from tests.asking import Asking
-from tests.samples import FAIR, KLEIN, UNFAIR
+from tests.samples import BENT, FAIR, FOUR, KLEIN, UNFAIR
 from toldorfree.breaks import (Break, fair_up_to, find_break, is_break, least_tellers, needed_for, seen_by_all,
                                table_circuits)
 from toldorfree.circuits import (bases_of, circuit_in, circuits_of, connecting_circuit, equal_columns, fixed_columns,
                                  least_base)
+from toldorfree.classes import class_count, class_shares, classes
+from toldorfree.coarse import block_of, coarse_blocks, coarse_table, is_coarse
+from toldorfree.cuts import class_column, crosses, cuts_of, is_split, splits_of, strong_splits
 from toldorfree.duals import dual_count, dual_spectrum, turned
+from toldorfree.evenly import free_within, seen_evenly
 from toldorfree.fairness import is_fair, is_full, is_latin, leaves_free, power_of, sees, told_by, tells
+from toldorfree.farness import farthest_closed, least_difference, pairs_at
+from toldorfree.foursomes import foursomes, most_foursomes
 from toldorfree.gaps import gap_bound, least_gap, near_one, rows_apart
+from toldorfree.glue import glued, unglued
+from toldorfree.goings import goings, goings_with, put_all
 from toldorfree.groups import Group
+from toldorfree.holding import held, short_part, stacked_parts
+from toldorfree.inner import chosen_rows, inner_through, inner_tables, is_inner, relabelled
+from toldorfree.laid import bent_table, is_laid, laid_table, ring_table, square_of
 from toldorfree.lots import common, lot_of, lots_of, minus, plus, rest_of
 from toldorfree.matching import equal_up_to_names, keeps, renaming_between
+from toldorfree.meeting import closing_row, full_classes, meets, open_round
 from toldorfree.naming import Renaming, renamed
+from toldorfree.pairing import is_paired, unpaired
+from toldorfree.partings import column_parting, least_lots, numbered, put_in, tells_parting
+from toldorfree.putting import class_parting, goes_in, greatest_silent, meeting_column, why_not
 from toldorfree.ranks import Ranks, closed_lots, hanging_parts, hangs_together
 from toldorfree.rebuilding import base_parts, rebuilt, rows_fitting
 from toldorfree.spectra import alike_just, rank_alike, rank_spectrum, spectrum
+from toldorfree.stacks import mixed_lot, stack, stackable
 from toldorfree.sums import cubes_of, is_sum_closed
 from toldorfree.tables import Table
 from toldorfree.texts import table_from, table_text
 from toldorfree.together import least_many, rank_tuples, tuples_just
+from toldorfree.transversals import partings_by_transversals, transversals
 
 TABLE = Table.parity(3, 3).with_copy(1)
 ROW = [0, 1, 2, 1]
 RANKS = Ranks(TABLE)
 SAME = Renaming.same(3, 4)
 BREAK = Break([1], [2], [0, 0], [1, 1])
+SMALL = Table.parity(4, 3)
+BLOCKS = [[0, 1, 0, 1], [0, 1, 0, 1], (0, 1, 0, 1)]
+SPLIT = Table.parity(2, 5)
 CALLS = (
     (lot_of, [2, 0], 3), (rest_of, [2, 0], 3), (plus, [2, 0], [1], 3), (common, [2, 0], [2], 3), (minus, [2, 0], [2], 3),
     (Table, 2, [[0, 1], [1, 1]]), (Table.alike, [0, 1], [0, 2]), (TABLE.part_rows, [2, 0]), (TABLE.rows_with, [2, 0], [1, 1]),
@@ -51,9 +71,29 @@ CALLS = (
     (spectrum, TABLE, ROW), (rank_spectrum, 2, RANKS), (alike_just, TABLE, ROW, [3, 1]), (rank_alike, 2, RANKS, [3, 1]),
     (tuples_just, TABLE, ROW, [3, 1], 2), (rank_tuples, 2, RANKS, [3, 1], 2), (least_many, 2, RANKS),
     (dual_count, 2, RANKS, [3, 1]), (dual_spectrum, 2, RANKS), (turned, 3, [1, 0, 6, 2]),
+    (least_difference, TABLE), (farthest_closed, TABLE), (pairs_at, TABLE, 3), (held, TABLE, 3, 2),
+    (short_part, TABLE, [2, 0], [1, 1]), (stacked_parts, TABLE, 3), (stack, SMALL, SMALL, SMALL, SMALL),
+    (mixed_lot, [Table.full(2, 2), Table.parity(2, 2)]), (stackable, [SMALL] * 4), (unpaired, SMALL, 2),
+    (is_paired, SMALL, 2), (chosen_rows, SMALL, [[2, 0], (1, 3), [3, 1]]), (is_inner, SMALL, [[2, 0], (1, 3), [3, 1]]),
+    (relabelled, SMALL, [[2, 0], (1, 3), [3, 1]]), (inner_through, SMALL, 2, [1, 1, 2]), (coarse_table, SMALL, BLOCKS),
+    (is_coarse, SMALL, BLOCKS), (block_of, SMALL, BLOCKS, [1, 1, 2]), (coarse_blocks, SMALL, 2),
+    (classes, BENT, [1, 0], [3, 2]), (class_count, BENT, [1, 0], [3, 2]), (class_shares, BENT, [1, 0], [3, 2]),
+    (meets, BENT, [1, 0], [3, 2]), (open_round, BENT, [1, 0], [3, 2]), (full_classes, BENT, [1, 0], [3, 2]),
+    (closing_row, TABLE, [2, 0], [3], ROW, [1, 1, 1, 1]), (foursomes, BENT, [1, 0], [3, 2]),
+    (most_foursomes, 2, RANKS, [1, 0], [3, 2]), (seen_evenly, BENT, [1, 0], [3, 2], [2]), (free_within, BENT, [1, 0], [3]),
+    (is_laid, SMALL, [FOUR, FOUR, FOUR]), (laid_table, [FOUR, KLEIN], [[0, 0], [1, 2]]), (square_of, FOUR),
+    (ring_table, KLEIN, 3), (bent_table, 4, [[1, 0], (), [1, 2]]), (numbered, [7, -1, 7]), (column_parting, TABLE, 2),
+    (put_in, TABLE, [0, 1, 2] * 3), (tells_parting, TABLE, [2, 0], [0, 1, 2] * 3), (least_lots, TABLE, [0, 1, 2] * 3),
+    (goes_in, TABLE, [0, 1, 2] * 3), (greatest_silent, TABLE, [0, 1, 2] * 3), (why_not, TABLE, [0, 1, 2] + [0] * 6),
+    (class_parting, BENT, [1, 0], [3, 2]), (meeting_column, SPLIT, [1, 0], [4, 3, 2]), (transversals, Table.full(3, 2)),
+    (partings_by_transversals, Table.full(3, 2)), (goings, TABLE), (goings_with, TABLE, [2]),
+    (put_all, TABLE, [[0, 1, 2] * 3, (0,) * 9]), (cuts_of, SPLIT), (splits_of, SPLIT), (strong_splits, SPLIT),
+    (is_split, SPLIT, [1, 0]), (class_column, SPLIT, [1, 0]), (crosses, [1, 0], [2, 1], 4), (glued, SPLIT, 1, SPLIT, 2),
+    (unglued, SPLIT, [2, 0]),
 )
 QUESTIONS = (is_fair, is_latin, hangs_together, equal_up_to_names, keeps, is_sum_closed, tells, leaves_free, is_full,
-             is_break, fair_up_to, seen_by_all, RANKS.is_closed, RANKS.is_modular, KLEIN.is_normal)
+             is_break, fair_up_to, seen_by_all, RANKS.is_closed, RANKS.is_modular, KLEIN.is_normal, stackable, is_paired,
+             is_inner, is_coarse, meets, full_classes, seen_evenly, is_laid, tells_parting, goes_in, is_split, crosses)
 
 
 def written(value):
@@ -100,9 +140,14 @@ class ConventionsTest(Asking):
 
     def test_objects_stay_when_lists_change(self):
         rows, names, lines = [[0, 1], [1, 1]], [[1, 0], [0, 1]], [[0, 1], [1, 0]]
-        made = (Table(2, rows), Renaming(names), Group(lines))
+        parting, bends, parts, again = [0, 1, 1, 0], [[0, 1], [1]], [[0, 0], [1, 0]], [[0, 0, 0, 1], [1, 1, 0, 0]]
+        square = Table.full(2, 2)
+        made = (Table(2, rows), Renaming(names), Group(lines), put_in(square, parting), bent_table(3, bends),
+                laid_table([Group.sums(2)] * 2, parts), put_all(square, again),
+                glued(Table.parity(2, 2), 0, Table.parity(2, 3), 1, names=names[0]))
         before = [written(value) for value in made]
-        for lists in (rows, names, lines):
+        parting[0] = 1
+        for lists in (rows, names, lines, bends, parts, again):
             lists[0][0], lists[0][1] = lists[0][1], lists[0][0]
             lists.append(lists[0])
         self.assertEqual([written(value) for value in made], before)
@@ -114,8 +159,10 @@ class ConventionsTest(Asking):
     def test_generators(self):
         self.assertEqual(list(lots_of(3)), list(lots_of(3)))
         self.assertEqual(list(closed_lots(TABLE)), list(closed_lots(TABLE)))
-        for lot in list(lots_of(3)) + list(closed_lots(TABLE)):
-            self.assertIsInstance(lot, tuple)
+        self.assertEqual(list(inner_tables(SMALL, 2)), list(inner_tables(SMALL, 2)))
+        for found in list(lots_of(3)) + list(closed_lots(TABLE)) + list(inner_tables(SMALL, 2)):
+            self.assertIsInstance(found, tuple)
+            self.is_tuples(found)
 
 
 if __name__ == "__main__":
