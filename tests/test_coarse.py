@@ -256,6 +256,10 @@ class WrongTest(Asking):
         self.assertEqual(len(coarse_blocks(Table.full(8, 1), 2)), 105)
         self.wrong(TooMany, "limit", 5000, coarse_blocks, Table.full(36, 1), 2)
         self.wrong(TooMany, "limit", 5000, coarse_blocks, Table.full(6, 4), 3)
+        # 15 ways at each of three columns are 3375, 10 ways 1000
+        self.assertEqual(len(coarse_blocks(Table.full(6, 3), 2)), 3375)
+        self.assertEqual(len(coarse_blocks(Table.parity(6, 4), 2)), 1)
+        self.assertEqual(len(coarse_blocks(Table.full(6, 3), 3)), 1000)
         self.assertEqual(len(coarse_blocks(Table.full(12, 1), 6)), 462)
         self.wrong(TooMany, "limit", 5000, coarse_blocks, Table.full(12, 1), 4)
         self.wrong(NotFair, "lot", (0,), coarse_blocks, Table(36, [(0,), (1,)]), 2)

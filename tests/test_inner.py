@@ -235,7 +235,7 @@ class WrongTest(Asking):
         for table, size in ((Table.full(9, 2), 4), (Table.full(15, 1), 6), (Table.full(36, 1), 18), (Table.full(6, 3), 3)):
             self.wrong(TooMany, "limit", 5000, lambda one, two: list(inner_tables(one, two)), table, size)
             self.wrong(TooMany, "limit", 5000, inner_through, table, size, table[0])
-        self.assertEqual(len(list(inner_tables(Table.full(20, 1), 4))), 4845)
+        self.assertEqual(list(inner_tables(Table.full(20, 1), 4)), [(signs,) for signs in combinations(range(20), 4)])
         self.assertEqual(list(inner_tables(Table.full(36, 2), 36)), [(tuple(range(36)),) * 2])
         self.assertEqual(list(inner_tables(Table.parity(36, 3), 35)), [])
 

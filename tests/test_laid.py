@@ -149,6 +149,10 @@ class WrongLaidTest(Asking):
         self.wrong(TooMany, "limit", 1300, laid_table, groups, units)
         self.assertEqual(len(laid_table(groups, units[:3])), 121)
         self.assertEqual(len(laid_table([TURNS] * 4, Table.full(6, 4).rows)), 1296)
+        # 1300 rows may be passed, but no laid table has just so many
+        rows = list(product(range(11), repeat=3))
+        self.wrong(TooMany, "limit", 1300, laid_table, groups[:3], rows[:1300])
+        self.wrong(BadRow, "place", -1, laid_table, groups[:3], rows[:1301])
         with self.assertRaises(TooMany):
             laid_table([GROUPS["6"]] * 8, [(0,) * 8] + [(0,) * at + (1,) + (0,) * (7 - at) for at in range(8)])
 

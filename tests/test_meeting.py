@@ -69,12 +69,12 @@ class MeetingTest(Asking):
         begins = set()
         for seed in range(30):
             table = shuffled(BENT, seed)
-            found = open_round(table, (0, 1), (2, 3))
-            self.assertEqual(found, plain_open_round(table, (0, 1), (2, 3)))
-            self.is_tuples(found)
-            begins.add(table.number_of(found[0]))
-        self.assertIn(0, begins)
-        self.assertGreater(len(begins), 1)
+            for one, other in (((0, 1), (2, 3)), ((0, 2), (1, 3)), ((3, 0), (1, 2))):
+                found = open_round(table, one, other)
+                self.assertEqual(found, plain_open_round(table, one, other))
+                self.is_tuples(found)
+                begins.add(table.number_of(found[0]))
+        self.assertLessEqual({0, 1}, begins)
 
     def test_closing_rows(self):
         chance = random.Random(5)

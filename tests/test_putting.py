@@ -265,6 +265,15 @@ class ClassPartingTest(Asking):
         self.assertEqual(class_parting(BENT, (0, 1), (2, 3)), classes(BENT, (0, 1), (2, 3)))
         self.assertIsNone(meeting_column(BENT, (0, 1), (2, 3)))
 
+    def test_one_class(self):
+        # two squares glued: a constant parting goes in, but lots with one class and the meet number 1 do not meet
+        table = SORTS[2]
+        self.assertEqual(plain_meet(table, (0, 2), (1, 3)), 1)
+        self.assertEqual(class_parting(table, (0, 2), (1, 3)), (0,) * 125)
+        self.assertIs(goes_in(table, (0,) * 125), True)
+        self.assertIsNone(meeting_column(table, (0, 2), (1, 3)))
+        self.assertIsNone(meeting_column(table, (), (0, 1)))
+
 
 class FarApartTest(Asking):
     def test_far_apart(self):

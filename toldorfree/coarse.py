@@ -107,10 +107,10 @@ def blocks_beside(table, base, choice, size):
     It is a dict by columns, without the fixed ones.
     """
     parts = [tuple([entry[row[column]] for entry, column in zip(choice, base)]) for row in table.rows]
-    found = {column: entry for column, entry in zip(base, choice)}
+    found = {}
     for column in range(table.columns):
         signs = [row[column] for row in table.rows]
-        if column not in base and len(set(signs)) > 1:
+        if len(set(signs)) > 1:
             entry = told_blocks(parts, signs, table.signs, size)
             if entry is None:
                 return None

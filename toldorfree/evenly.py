@@ -28,6 +28,6 @@ def free_within(table, one, other):
     second = lot_of(other, table.columns)
     ranks = Ranks(table)
     goal = ranks.rank(plus(first, second, table.columns))
-    wanted = goal - ranks.rank(second)
-    return [lot for lot in lots_of(table.columns, most=wanted)
-            if len(lot) == wanted and is_part(lot, first) and ranks.rank(plus(lot, second, table.columns)) == goal][0]
+    # a lot of fewer columns cannot bring the rank of other so high, so the first lot that does is one of them
+    return [lot for lot in lots_of(table.columns)
+            if is_part(lot, first) and ranks.rank(plus(lot, second, table.columns)) == goal][0]
