@@ -136,18 +136,25 @@ def drawn(signs, seed):
 
 def plain_classes(table, one, other):
     """The number of the class of each row, by steps from row to row."""
+    near = {}
+    for number, row in enumerate(table.rows):
+        for lot in {tuple(one), tuple(other)}:
+            near.setdefault((lot, tuple(row[column] for column in lot)), []).append(number)
     found = {}
+    many = 0
     for start in range(table.many):
         if start not in found:
-            number = len(set(found.values()))
             queue = [start]
-            found[start] = number
+            found[start] = many
             while queue:
                 row = table.rows[queue.pop()]
-                for place, step in enumerate(table.rows):
-                    if place not in found and (alike_on(row, step, one) or alike_on(row, step, other)):
-                        found[place] = number
-                        queue.append(place)
+                for lot in {tuple(one), tuple(other)}:
+                    # the rows that are alike are gone through once, as they all get this number now
+                    for place in near.pop((lot, tuple(row[column] for column in lot)), []):
+                        if place not in found:
+                            found[place] = many
+                            queue.append(place)
+            many += 1
     return tuple(found[place] for place in range(table.many))
 
 
@@ -188,6 +195,9 @@ FOUR = Group.sums(4)
 KLEIN = Group.sums(2) * Group.sums(2)
 GROUPS = {"2": Group.sums(2), "3": Group.sums(3), "4": FOUR, "klein": KLEIN, "5": Group.sums(5),
           "6": Group.sums(6), "turns": Group.turns()}
+
+# the group of the turns and mirrors of five points
+FIVES = Group([[(x // 2 + y // 2 * (-1) ** (x % 2)) % 5 * 2 + (x + y) % 2 for y in range(10)] for x in range(10)])
 
 # fair tables of at most 81 rows, with full ones, Latin cubes, copies, fixed columns and parts beside one another
 FAIR = (

@@ -11,6 +11,7 @@ from toldorfree.circuits import (bases_of, circuit_in, circuits_of, connecting_c
                                  least_base)
 from toldorfree.classes import class_count, class_shares, classes
 from toldorfree.coarse import block_of, coarse_blocks, coarse_table, is_coarse
+from toldorfree.crossing import crossing_group, crossing_kind, quarter_table, quarters, third
 from toldorfree.cuts import class_column, crosses, cuts_of, is_split, splits_of, strong_splits
 from toldorfree.duals import dual_count, dual_spectrum, turned
 from toldorfree.evenly import free_within, seen_evenly
@@ -23,6 +24,7 @@ from toldorfree.goings import goings, goings_with, put_all
 from toldorfree.groups import Group
 from toldorfree.holding import held, short_part, stacked_parts
 from toldorfree.inner import chosen_rows, inner_through, inner_tables, is_inner, relabelled
+from toldorfree.inside import coarse_count, inner_count, normal_blocks, subgroup_signs
 from toldorfree.laid import bent_table, is_laid, laid_table, ring_table, square_of
 from toldorfree.lots import common, lot_of, lots_of, minus, plus, rest_of
 from toldorfree.matching import equal_up_to_names, keeps, renaming_between
@@ -30,16 +32,22 @@ from toldorfree.meeting import closing_row, full_classes, meets, open_round
 from toldorfree.naming import Renaming, renamed
 from toldorfree.pairing import is_paired, unpaired
 from toldorfree.partings import column_parting, least_lots, numbered, put_in, tells_parting
+from toldorfree.pieces import Piece
 from toldorfree.putting import class_parting, goes_in, greatest_silent, meeting_column, why_not
 from toldorfree.ranks import Ranks, closed_lots, hanging_parts, hangs_together
+from toldorfree.reading import elements_of, read_group, read_product
 from toldorfree.rebuilding import base_parts, rebuilt, rows_fitting
+from toldorfree.ringglue import glue_gives_ring, glue_symmetries, ring_names
+from toldorfree.rings import is_ring, neighbours_split, ring_group, ring_order, same_ring
 from toldorfree.spectra import alike_just, rank_alike, rank_spectrum, spectrum
 from toldorfree.stacks import mixed_lot, stack, stackable
 from toldorfree.sums import cubes_of, is_sum_closed
+from toldorfree.symmetries import count_symmetries, leads, symmetries_of
 from toldorfree.tables import Table
 from toldorfree.texts import table_from, table_text
 from toldorfree.together import least_many, rank_tuples, tuples_just
 from toldorfree.transversals import partings_by_transversals, transversals
+from toldorfree.trees import Tree, rebuilt_from, tree_of
 
 TABLE = Table.parity(3, 3).with_copy(1)
 ROW = [0, 1, 2, 1]
@@ -49,6 +57,9 @@ BREAK = Break([1], [2], [0, 0], [1, 1])
 SMALL = Table.parity(4, 3)
 BLOCKS = [[0, 1, 0, 1], [0, 1, 0, 1], (0, 1, 0, 1)]
 SPLIT = Table.parity(2, 5)
+RING = ring_table(FOUR, 4)
+TREE = tree_of(SPLIT.with_copy(1))
+STAR = tree_of(SPLIT)[0]
 CALLS = (
     (lot_of, [2, 0], 3), (rest_of, [2, 0], 3), (plus, [2, 0], [1], 3), (common, [2, 0], [2], 3), (minus, [2, 0], [2], 3),
     (Table, 2, [[0, 1], [1, 1]]), (Table.alike, [0, 1], [0, 2]), (TABLE.part_rows, [2, 0]), (TABLE.rows_with, [2, 0], [1, 1]),
@@ -89,18 +100,27 @@ CALLS = (
     (partings_by_transversals, Table.full(3, 2)), (goings, TABLE), (goings_with, TABLE, [2]),
     (put_all, TABLE, [[0, 1, 2] * 3, (0,) * 9]), (cuts_of, SPLIT), (splits_of, SPLIT), (strong_splits, SPLIT),
     (is_split, SPLIT, [1, 0]), (class_column, SPLIT, [1, 0]), (crosses, [1, 0], [2, 1], 4), (glued, SPLIT, 1, SPLIT, 2),
-    (unglued, SPLIT, [2, 0]),
+    (unglued, SPLIT, [2, 0]), (quarters, [1, 0], [2, 1], 4), (third, [1, 0], [2, 1], 4),
+    (quarter_table, RING, [1, 0], [2, 1]), (crossing_kind, RING, [1, 0], [2, 1]), (crossing_group, RING, [1, 0], [2, 1]),
+    (tree_of, TABLE), (TREE.sorts,), (TREE.splits,), (TREE.ends, [1, 5]), (rebuilt_from, TREE), (STAR.inner_lots,),
+    (STAR.many_splits,), (STAR.ring_way,), (STAR.group,), (TREE[0].inner_lots,), (TREE[0].ring_way,), (TREE[0].group,),
+    (elements_of, RING), (read_product, RING), (read_group, RING), (is_ring, RING), (ring_order, RING), (ring_group, RING),
+    (neighbours_split, RING), (same_ring, RING, RING), (symmetries_of, RING), (count_symmetries, RING),
+    (leads, RING, [0, 0, 0, 0], [1, 1, 1, 1]), (inner_count, FOUR, 4, 2), (coarse_count, FOUR, 2),
+    (subgroup_signs, RING, [2, 0]), (normal_blocks, RING, [2, 0]), (ring_names, FOUR, FOUR),
+    (glue_gives_ring, FOUR, FOUR, [1, 2, 3, 0]), (glue_symmetries, SMALL, 0, SMALL, 1),
 )
 QUESTIONS = (is_fair, is_latin, hangs_together, equal_up_to_names, keeps, is_sum_closed, tells, leaves_free, is_full,
              is_break, fair_up_to, seen_by_all, RANKS.is_closed, RANKS.is_modular, KLEIN.is_normal, stackable, is_paired,
-             is_inner, is_coarse, meets, full_classes, seen_evenly, is_laid, tells_parting, goes_in, is_split, crosses)
+             is_inner, is_coarse, meets, full_classes, seen_evenly, is_laid, tells_parting, goes_in, is_split, crosses,
+             is_ring, neighbours_split, same_ring, glue_gives_ring)
 
 
 def written(value):
     """The value with what its objects hold in the place of the objects."""
     if isinstance(value, (list, tuple)):
         return [value.__class__] + [written(part) for part in value]
-    if isinstance(value, (Table, Renaming, Group, Ranks, Break)):
+    if isinstance(value, (Table, Renaming, Group, Ranks, Break, Piece, Tree)):
         return [value.__class__, repr([(name, written(part)) for name, part in sorted(vars(value).items())])]
     return value
 
@@ -111,12 +131,12 @@ class ConventionsTest(Asking):
             self.is_tuples(call(*values))
 
     def test_arguments_and_tables_stay(self):
-        before = [written(value) for value in (TABLE, RANKS, SAME, KLEIN, BREAK)]
+        before = [written(value) for value in (TABLE, RANKS, SAME, KLEIN, BREAK, RING, SPLIT, SMALL, TREE, STAR)]
         for call, *values in CALLS:
             kept = written(copy.deepcopy(values))
             call(*values)
             self.assertEqual(written(values), kept, call)
-        self.assertEqual([written(value) for value in (TABLE, RANKS, SAME, KLEIN, BREAK)], before)
+        self.assertEqual([written(value) for value in (TABLE, RANKS, SAME, KLEIN, BREAK, RING, SPLIT, SMALL, TREE, STAR)], before)
 
     def test_equal_arguments_give_equal_results(self):
         for call, *values in CALLS:
@@ -144,7 +164,7 @@ class ConventionsTest(Asking):
         square = Table.full(2, 2)
         made = (Table(2, rows), Renaming(names), Group(lines), put_in(square, parting), bent_table(3, bends),
                 laid_table([Group.sums(2)] * 2, parts), put_all(square, again),
-                glued(Table.parity(2, 2), 0, Table.parity(2, 3), 1, names=names[0]))
+                glued(Table.parity(2, 2), 0, Table.parity(2, 3), 1, names=names[0]), tree_of(Table(2, lines)))
         before = [written(value) for value in made]
         parting[0] = 1
         for lists in (rows, names, lines, bends, parts, again):

@@ -4,8 +4,9 @@ import random
 import unittest
 
 from tests.asking import Asking
-from tests.samples import (BENT, FAIR, FIVE, FOUR, GROUPS, KLEIN, NO_INTEGERS, SORTS, UNFAIR, all_lots, bent,
-                           drawn, four_points, glue_plainly, parts, plain_classes, plain_meet, ring, shuffled, square_of)
+from tests.samples import (BENT, FIVE, FOUR, GROUPS, NO_INTEGERS, UNFAIR, all_lots, bent, drawn, four_points,
+                           glue_plainly, parts, plain_classes, plain_meet, ring, square_of)
+from tests.wholes import LOOSE, SMALL, TURNS, WHOLE, plain_crosses, plain_cuts, rest
 from toldorfree.circuits import circuits_of
 from toldorfree.cuts import class_column, crosses, cuts_of, is_split, splits_of, strong_splits
 from toldorfree.errors import BadNumber, NotCut, NotFair, NotSplit, NotWhole
@@ -13,40 +14,14 @@ from toldorfree.holding import short_part
 from toldorfree.meeting import meets
 from toldorfree.partings import column_parting, numbered
 from toldorfree.putting import goes_in
-from toldorfree.ranks import Ranks, hanging_parts, hangs_together
+from toldorfree.ranks import Ranks, hanging_parts
 from toldorfree.tables import Table
-
-TURNS = GROUPS["turns"]
-# five columns: a square glued to a bent table, and three squares glued one behind the other
-MIXED = (
-    glue_plainly(square_of(FOUR), 2, BENT, 1, drawn(4, 5)), glue_plainly(BENT, 3, square_of(KLEIN), 0, drawn(4, 6)),
-    glue_plainly(glue_plainly(square_of(FOUR), 2, square_of(KLEIN), 0, drawn(4, 7)), 3, square_of(FOUR), 1, drawn(4, 8)),
-    glue_plainly(Table.parity(3, 4), 3, Table.parity(3, 2).with_copy(0), 0, (0, 1, 2)), Table.parity(2, 6),
-    Table.parity(3, 3).with_copy(0).with_copy(1), Table(5, [(k, k, 4 - k, k) for k in range(5)]),
-    shuffled(Table.parity(2, 7), 3), ring(KLEIN, 5), bent(5, [(0, 1)]), bent(5, [(0, 1, 2), (1, 2, 3)]),
-)
-WHOLE = [table for table in FAIR + SORTS + MIXED if hangs_together(table) and table.many <= 512]
-LOOSE = [table for table in FAIR + SORTS if not hangs_together(table)]
-
-
-def rest(table, lot):
-    return tuple(column for column in range(table.columns) if column not in lot)
-
-
-def plain_cuts(table):
-    return [lot for lot in all_lots(table.columns) if 0 in lot and 2 <= len(lot) <= table.columns - 2
-            and plain_meet(table, lot, rest(table, lot)) == 1]
-
-
-def plain_crosses(one, other, columns):
-    one, other = set(one), set(other)
-    return bool(one - other and one & other and other - one and set(range(columns)) - one - other)
 
 
 class CutsTest(Asking):
     def test_cuts_and_splits(self):
         ways = set()
-        for table in [table for table in WHOLE if table.many <= 128]:
+        for table in SMALL:
             cuts = plain_cuts(table)
             splits = [lot for lot in cuts if len(set(plain_classes(table, lot, rest(table, lot)))) == table.signs]
             strong = [lot for lot in splits if not any(plain_crosses(lot, other, table.columns) for other in splits)]
@@ -102,7 +77,7 @@ class CutsTest(Asking):
         self.assertEqual(found, {0, 1, 2, 3})
 
     def test_class_columns(self):
-        for table in [table for table in WHOLE if table.many <= 128]:
+        for table in SMALL:
             for lot in splits_of(table):
                 wanted = self.classes(table, lot)
                 self.assertEqual(class_column(table, list(lot[::-1])), wanted)

@@ -16,6 +16,7 @@ from toldorfree.naming import Renaming, renamed
 from toldorfree.ranks import Ranks, hangs_together
 from toldorfree.spectra import spectrum
 from toldorfree.tables import Table
+from toldorfree.trees import tree_of
 
 FIVES = (FIVE, Table.parity(5, 3), Table.parity(5, 2), line(5, 4), FIVE.with_copy(0) + Table(5, [(1,)]))
 FOURS = (square_of(FOUR), shuffled(square_of(KLEIN), 1), BENT, Table.parity(4, 2).with_copy(1),
@@ -214,7 +215,8 @@ class UngluedTest(Asking):
     def test_example(self):
         square = Table.parity(2, 3)
         table = glued(square, 2, square, 0)
-        self.assertEqual([table == Table.parity(2, 4), splits_of(table)], [True, ((0, 1), (0, 2), (0, 3))])
+        self.assertEqual([table == Table.parity(2, 4), tree_of(table).sorts(), tree_of(table).splits()],
+                         [True, ("star",), ((0, 1), (0, 2), (0, 3))])
 
 
 if __name__ == "__main__":

@@ -155,7 +155,8 @@ class LanguageTest(unittest.TestCase):
                     if node.func.id in ("zip", "enumerate", "reversed", "range"):
                         self.assertTrue(isinstance(above, (ast.For, ast.comprehension, ast.Compare))
                                         or isinstance(above, ast.Assign) and node.func.id == "range"
-                                        or isinstance(above, ast.Call) and getattr(above.func, "id", "") in calls,
+                                        or isinstance(above, ast.Call) and getattr(above.func, "id", "") in calls
+                                        or node.func.id == "range" and getattr(above.func, "id", "") == "reversed",
                                         node.lineno)
 
     def test_modules_use_earlier_stages_alone(self):

@@ -60,6 +60,13 @@ def check_column(column, columns):
         raise BadNumber("column")
 
 
+def base_below(base, many):
+    """The number base, 0 for None; BadNumber("base") unless it is None or a number below many."""
+    if base is not None and not is_within(base, 0, many - 1):
+        raise BadNumber("base")
+    return 0 if base is None else base
+
+
 def check_sizes(one, other):
     """Raise OtherSigns or OtherColumns unless other has the numbers of one."""
     if other.signs != one.signs:

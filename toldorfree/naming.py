@@ -20,6 +20,11 @@ def renamed_row(names, row):
     return tuple([names[column][sign] for column, sign in enumerate(row)])
 
 
+def names_after(late, early):
+    """The names that do early first and then late."""
+    return tuple([tuple([then[sign] for sign in first]) for then, first in zip(late, early)])
+
+
 def undone(permutation):
     """The permutation that undoes this one."""
     places = {sign: place for place, sign in enumerate(permutation)}
@@ -59,7 +64,7 @@ class Renaming:
         if not isinstance(other, Renaming):
             return NotImplemented
         check_sizes(self, other)
-        return Renaming([tuple([late[sign] for sign in early]) for late, early in zip(self.names, other.names)])
+        return Renaming(names_after(self.names, other.names))
 
     def __invert__(self):
         return Renaming([undone(entry) for entry in self.names])
