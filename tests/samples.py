@@ -22,9 +22,16 @@ def parts(table, lot):
     return {tuple(row[column] for column in sorted(lot)) for row in table.rows}
 
 
+def signs_beside(table, lot, column):
+    """The sets of signs at the column beside each part-row on lot."""
+    found = {}
+    for row in table.rows:
+        found.setdefault(tuple(row[place] for place in lot), set()).add(row[column])
+    return found.values()
+
+
 def plain_tells(table, lot, column):
-    return all(one[column] == other[column] for one in table.rows for other in table.rows
-               if all(one[place] == other[place] for place in lot))
+    return all(len(signs) == 1 for signs in signs_beside(table, lot, column))
 
 
 def plain_told(table, lot, parting):
@@ -36,8 +43,7 @@ def plain_told(table, lot, parting):
 
 
 def plain_free(table, lot, column):
-    found = {(tuple(row[place] for place in lot), row[column]) for row in table.rows}
-    return all((part, sign) in found for part in parts(table, lot) for sign in range(table.signs))
+    return all(len(signs) == table.signs for signs in signs_beside(table, lot, column))
 
 
 def plain_fair(table):
@@ -132,6 +138,31 @@ def glue_plainly(one, column, other, second, names):
 def drawn(signs, seed):
     """A drawn permutation of the signs."""
     return random.Random(seed).sample(range(signs), signs)
+
+
+def drawn_square(signs, seed):
+    """A drawn square: each line is a matching of columns and signs that have not stood there."""
+    chance = random.Random(seed)
+    left = [set(range(signs)) for _ in range(signs)]
+    lines = []
+    for _ in range(signs):
+        taken = {}
+
+        def place(column, tried):
+            for sign in chance.sample(sorted(left[column]), len(left[column])):
+                if sign not in tried:
+                    tried.add(sign)
+                    if sign not in taken or place(taken[sign], tried):
+                        taken[sign] = column
+                        return True
+            return False
+
+        for column in range(signs):
+            place(column, set())
+        for sign, column in taken.items():
+            left[column].discard(sign)
+        lines.append({column: sign for sign, column in taken.items()})
+    return Table(signs, [(x, y, lines[x][y]) for x in range(signs) for y in range(signs)])
 
 
 def plain_classes(table, one, other):

@@ -13,11 +13,14 @@ from toldorfree.classes import class_count, class_shares, classes
 from toldorfree.coarse import block_of, coarse_blocks, coarse_table, is_coarse
 from toldorfree.crossing import crossing_group, crossing_kind, quarter_table, quarters, third
 from toldorfree.cuts import class_column, crosses, cuts_of, is_split, splits_of, strong_splits
+from toldorfree.desks import Desk
 from toldorfree.duals import dual_count, dual_spectrum, turned
 from toldorfree.evenly import free_within, seen_evenly
 from toldorfree.fairness import is_fair, is_full, is_latin, leaves_free, power_of, sees, told_by, tells
 from toldorfree.farness import farthest_closed, least_difference, pairs_at
 from toldorfree.foursomes import foursomes, most_foursomes
+from toldorfree.fourpoints import (fits_in, four_point_group, four_point_table, is_four_points, rounds_of_edges,
+                                   triangles)
 from toldorfree.gaps import gap_bound, least_gap, near_one, rows_apart
 from toldorfree.glue import glued, unglued
 from toldorfree.goings import goings, goings_with, put_all
@@ -26,20 +29,26 @@ from toldorfree.holding import held, short_part, stacked_parts
 from toldorfree.inner import chosen_rows, inner_through, inner_tables, is_inner, relabelled
 from toldorfree.inside import coarse_count, inner_count, normal_blocks, subgroup_signs
 from toldorfree.laid import bent_table, is_laid, laid_table, ring_table, square_of
+from toldorfree.listings import line_of, listing
+from toldorfree.losses import (changed, least_changes, mends, nearest, refilled, ways_left, wrong_found, wrong_mended)
 from toldorfree.lots import common, lot_of, lots_of, minus, plus, rest_of
 from toldorfree.matching import equal_up_to_names, keeps, renaming_between
 from toldorfree.meeting import closing_row, full_classes, meets, open_round
 from toldorfree.naming import Renaming, renamed
+from toldorfree.opposite import halves_alike, opposite_column, opposite_meet, seventh
 from toldorfree.pairing import is_paired, unpaired
 from toldorfree.partings import column_parting, least_lots, numbered, put_in, tells_parting
 from toldorfree.pieces import Piece
+from toldorfree.planes import is_plane, is_short_plane, line_table, plane_table, short_plane_table
 from toldorfree.putting import class_parting, goes_in, greatest_silent, meeting_column, why_not
 from toldorfree.ranks import Ranks, closed_lots, hanging_parts, hangs_together
 from toldorfree.reading import elements_of, read_group, read_product
 from toldorfree.rebuilding import base_parts, rebuilt, rows_fitting
 from toldorfree.ringglue import glue_gives_ring, glue_symmetries, ring_names
 from toldorfree.rings import is_ring, neighbours_split, ring_group, ring_order, same_ring
+from toldorfree.secrets import link_names, links, needed, openers, opens, what_seen
 from toldorfree.spectra import alike_just, rank_alike, rank_spectrum, spectrum
+from toldorfree.squares import closes, comes_of, corner, open_corner, turns_alike, ways
 from toldorfree.stacks import mixed_lot, stack, stackable
 from toldorfree.sums import cubes_of, is_sum_closed
 from toldorfree.symmetries import count_symmetries, leads, symmetries_of
@@ -48,6 +57,7 @@ from toldorfree.texts import table_from, table_text
 from toldorfree.together import least_many, rank_tuples, tuples_just
 from toldorfree.transversals import partings_by_transversals, transversals
 from toldorfree.trees import Tree, rebuilt_from, tree_of
+from toldorfree.trials import tried
 
 TABLE = Table.parity(3, 3).with_copy(1)
 ROW = [0, 1, 2, 1]
@@ -60,6 +70,9 @@ SPLIT = Table.parity(2, 5)
 RING = ring_table(FOUR, 4)
 TREE = tree_of(SPLIT.with_copy(1))
 STAR = tree_of(SPLIT)[0]
+POINTS = four_point_table(KLEIN)
+DESK = Desk(TABLE)
+DESK.deal(2)
 CALLS = (
     (lot_of, [2, 0], 3), (rest_of, [2, 0], 3), (plus, [2, 0], [1], 3), (common, [2, 0], [2], 3), (minus, [2, 0], [2], 3),
     (Table, 2, [[0, 1], [1, 1]]), (Table.alike, [0, 1], [0, 2]), (TABLE.part_rows, [2, 0]), (TABLE.rows_with, [2, 0], [1, 1]),
@@ -108,19 +121,30 @@ CALLS = (
     (neighbours_split, RING), (same_ring, RING, RING), (symmetries_of, RING), (count_symmetries, RING),
     (leads, RING, [0, 0, 0, 0], [1, 1, 1, 1]), (inner_count, FOUR, 4, 2), (coarse_count, FOUR, 2),
     (subgroup_signs, RING, [2, 0]), (normal_blocks, RING, [2, 0]), (ring_names, FOUR, FOUR),
-    (glue_gives_ring, FOUR, FOUR, [1, 2, 3, 0]), (glue_symmetries, SMALL, 0, SMALL, 1),
+    (glue_gives_ring, FOUR, FOUR, [1, 2, 3, 0]), (glue_symmetries, SMALL, 0, SMALL, 1), (ways, SMALL), (closes, SMALL),
+    (open_corner, SMALL), (corner, SMALL, 1, 2, 3), (comes_of, SMALL, FOUR), (turns_alike, SMALL),
+    (four_point_table, FOUR), (is_four_points, POINTS), (four_point_group, POINTS), (fits_in, SMALL), (triangles, POINTS),
+    (rounds_of_edges, POINTS), (opposite_meet, POINTS, 0, 2), (opposite_column, POINTS, 0, 2), (seventh, POINTS, 0, 2),
+    (halves_alike, POINTS), (plane_table, KLEIN), (short_plane_table, Group.sums(3)), (is_plane, POINTS.with_copy(0)),
+    (is_short_plane, POINTS.with_copy(0)), (line_table, 5), (opens, TABLE, 1, [3, 0]), (openers, TABLE, 1),
+    (needed, TABLE, 1), (what_seen, TABLE, 1, [2, 0], [1, 1]), (links, TABLE, [2], 0, 1), (mends, TABLE, [3, 0]),
+    (link_names, TABLE, [2], [1], 0, 1), (ways_left, TABLE, [3, 0]), (refilled, TABLE, [None, 1, None, 1]),
+    (wrong_found, TABLE), (wrong_mended, TABLE), (nearest, TABLE, [0, 0, 1, 1]), (least_changes, TABLE, 1),
+    (changed, TABLE, ROW, 1, 2), (Desk, TABLE), (DESK.tree,), (DESK.opened_by,), (DESK.spectrum_now,), (DESK.ring_now,),
+    (tried, DESK, [["hold", [0, 1]], ("copy", [1])], listing), (line_of, TABLE, ROW), (listing, DESK),
 )
 QUESTIONS = (is_fair, is_latin, hangs_together, equal_up_to_names, keeps, is_sum_closed, tells, leaves_free, is_full,
              is_break, fair_up_to, seen_by_all, RANKS.is_closed, RANKS.is_modular, KLEIN.is_normal, stackable, is_paired,
              is_inner, is_coarse, meets, full_classes, seen_evenly, is_laid, tells_parting, goes_in, is_split, crosses,
-             is_ring, neighbours_split, same_ring, glue_gives_ring)
+             is_ring, neighbours_split, same_ring, glue_gives_ring, closes, comes_of, turns_alike, is_four_points,
+             opposite_meet, halves_alike, is_plane, is_short_plane, opens, mends)
 
 
 def written(value):
     """The value with what its objects hold in the place of the objects."""
     if isinstance(value, (list, tuple)):
         return [value.__class__] + [written(part) for part in value]
-    if isinstance(value, (Table, Renaming, Group, Ranks, Break, Piece, Tree)):
+    if isinstance(value, (Table, Renaming, Group, Ranks, Break, Piece, Tree, Desk)):
         return [value.__class__, repr([(name, written(part)) for name, part in sorted(vars(value).items())])]
     return value
 
@@ -131,12 +155,12 @@ class ConventionsTest(Asking):
             self.is_tuples(call(*values))
 
     def test_arguments_and_tables_stay(self):
-        before = [written(value) for value in (TABLE, RANKS, SAME, KLEIN, BREAK, RING, SPLIT, SMALL, TREE, STAR)]
+        before = [written(value) for value in (TABLE, RANKS, SAME, KLEIN, BREAK, RING, SPLIT, SMALL, TREE, STAR, POINTS, DESK)]
         for call, *values in CALLS:
             kept = written(copy.deepcopy(values))
             call(*values)
             self.assertEqual(written(values), kept, call)
-        self.assertEqual([written(value) for value in (TABLE, RANKS, SAME, KLEIN, BREAK, RING, SPLIT, SMALL, TREE, STAR)], before)
+        self.assertEqual([written(value) for value in (TABLE, RANKS, SAME, KLEIN, BREAK, RING, SPLIT, SMALL, TREE, STAR, POINTS, DESK)], before)
 
     def test_equal_arguments_give_equal_results(self):
         for call, *values in CALLS:
@@ -171,6 +195,11 @@ class ConventionsTest(Asking):
             lists[0][0], lists[0][1] = lists[0][1], lists[0][0]
             lists.append(lists[0])
         self.assertEqual([written(value) for value in made], before)
+
+    def test_what_a_desk_has_is_tuples(self):
+        for part in (DESK.deeds, DESK.opened_by(), DESK.spectrum_now(), TREE.edges, TREE.pieces, TREE.table.rows):
+            self.is_tuples(part)
+        self.assertEqual([DESK.now, DESK.deeds, DESK.left, DESK.wanted], [TABLE, ("deal",), 1, 2])
 
     def test_breaks_are_found_alike(self):
         for table in UNFAIR:

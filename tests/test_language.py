@@ -24,7 +24,7 @@ NODES = (ast.Module, ast.ImportFrom, ast.alias, ast.FunctionDef, ast.ClassDef, a
          ast.Call, ast.keyword, ast.Name, ast.Attribute, ast.Subscript, ast.Slice, ast.Constant, ast.JoinedStr,
          ast.FormattedValue, ast.List, ast.Tuple, ast.Dict, ast.ListComp, ast.DictComp, ast.comprehension, ast.BinOp,
          ast.UnaryOp, ast.BoolOp, ast.Compare, ast.IfExp, ast.operator, ast.unaryop, ast.boolop, ast.cmpop,
-         ast.expr_context, ast.Yield, ast.YieldFrom, ast.Starred)
+         ast.expr_context, ast.Yield, ast.YieldFrom, ast.Starred, ast.With, ast.withitem)
 
 
 def sources():
