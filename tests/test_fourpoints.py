@@ -29,7 +29,8 @@ TABLES = [four_points(group) for group in GROUPS.values() if group.size < 6] + [
 OTHERS = [table for table in FAIR + SORTS if table.columns != 6] + [
     Table.full(2, 6), Table.parity(2, 6), Table.parity(2, 3) + Table.parity(2, 3), four_points(KLEIN).moved((1, 0, 2, 3, 4, 5)),
     four_points(GROUPS["3"]).moved((0, 1, 3, 2, 4, 5)), Table.parity(3, 3).with_copy(0).with_copy(1).with_copy(2),
-    four_points(GROUPS["2"]) - (5,), four_points(GROUPS["2"]).with_copy(0)]
+    four_points(GROUPS["2"]) - (5,), four_points(GROUPS["2"]).with_copy(0), (four_points(GROUPS["2"]) - (5,)).with_copy(0),
+    (four_points(GROUPS["3"]) - (5,)) + Table(3, [(2,)]), (four_points(GROUPS["2"]) - (5,)) + Table.full(2, 1)]
 
 
 def plain_points_rank(lot):

@@ -1,7 +1,7 @@
 """Planes and lines: [131] to [133] and the section toldorfree/planes.py."""
 
 import unittest
-from itertools import permutations
+from itertools import permutations, product
 
 from tests.asking import Asking
 from tests.samples import (FAIR, FIVES, FOUR, GROUPS, KLEIN, NO_INTEGERS, SORTS, UNFAIR, four_points, plain_fair,
@@ -50,6 +50,9 @@ WITH_SEVEN += [table.moved(order) for table in WITH_SEVEN[:3] for order in (
     (1, 0, 2, 3, 4, 5, 6), (0, 2, 1, 4, 3, 5, 6), (2, 1, 0, 5, 4, 3, 6), (6, 1, 2, 3, 4, 5, 0), (5, 4, 2, 3, 1, 0, 6))]
 WITH_SEVEN += [put_in(four_points(GROUPS["2"]), [sum(row[column] for column in lot) % 2 for row in four_points(GROUPS["2"])])
                for lot in ((0, 1), (0, 5), (0, 1, 2), (1, 4), (2, 4, 5))]
+# column 6 is told by the pairs as in a plane, or as in the short shape, but the first six are no four points
+WITH_SEVEN += [Table(2, [(a, b, c, s ^ c, s ^ b, s ^ a, s) for a, b, c, s in product(range(2), repeat=4)]),
+               Table(2, [(a, b, c, d, s ^ b, s ^ a, s) for a, b, c, d, s in product(range(2), repeat=5)])]
 WITH_SEVEN += [put_in(four_points(FOUR), opposite_column(four_points(FOUR), 0, 1)), Table.parity(2, 7)]
 
 

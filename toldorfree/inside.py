@@ -5,7 +5,7 @@ from toldorfree.crossing import elements_at
 from toldorfree.errors import BadLot, BadNumber, OtherShape
 from toldorfree.lots import lot_below
 from toldorfree.reading import read_group
-from toldorfree.rings import check_ring_signs, is_ring
+from toldorfree.rings import is_ring
 
 
 def inner_count(group, columns, size):
@@ -36,7 +36,6 @@ def signs_read(table, number):
 
 def checked_group(table, number):
     """The group of a ring in its order, read at the row number number; its errors."""
-    check_ring_signs(table)
     if not is_ring(table):
         raise OtherShape("ring")
     return read_group(table, base=number)

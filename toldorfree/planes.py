@@ -8,8 +8,8 @@ from toldorfree.opposite import OPPOSITE
 from toldorfree.partings import put_in
 from toldorfree.tables import Table, all_rows
 
-# the products of four elements of which 0 and 1 are zero and one, beside the sums of their bits
-FOUR_TIMES = ((0, 0, 0, 0), (0, 1, 2, 3), (0, 2, 3, 1), (0, 3, 1, 2))
+# over four signs: y, 2.y and 3.y for each y
+FOUR_TIMES = ((0, 1, 2, 3), (0, 2, 3, 1), (0, 3, 1, 2))
 
 
 def plane_table(group):
@@ -59,5 +59,5 @@ def line_table(signs):
 def line_row(signs, x, y):
     """The row of x and y; over 4 signs bits are added and multiples are those of four elements."""
     if signs == 4:
-        return (x, y) + tuple([x ^ FOUR_TIMES[k][y] for k in range(1, 4)])
+        return (x, y) + tuple([x ^ times[y] for times in FOUR_TIMES])
     return (x, y) + tuple([(x + k * y) % signs for k in range(1, signs)])

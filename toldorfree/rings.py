@@ -9,15 +9,8 @@ from toldorfree.reading import check_circuit, check_few_signs, read_group
 from toldorfree.trees import tree_of
 
 
-def check_ring_signs(table):
-    """Raise NotFair, OtherShape("circuit") or TooMany unless the table can be asked for a ring."""
-    check_circuit(table)
-    check_few_signs(table.signs)
-
-
 def is_ring(table):
     """Whether the table is a ring in its order."""
-    check_ring_signs(table)
     group = read_group(table)
     if group is None:
         return False
@@ -27,7 +20,7 @@ def is_ring(table):
 
 def ring_order(table):
     """The least order of the columns in which the table is a ring, None if there is none."""
-    check_ring_signs(table)
+    check_circuit(table)
     if table.columns == 3:
         # a square is a ring in each order or in none
         return (0, 1, 2) if is_ring(table) else None

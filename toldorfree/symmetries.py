@@ -55,8 +55,7 @@ def same_names(signs, columns):
 
 def least_leading(table, first, last):
     """The least names that lead one row to another, for a table that hangs together; None if there are none."""
-    if len(table.rows) == 1:
-        return same_names(table.signs, table.columns)
+    # a fixed column has one sign in both rows, so its least names keep all signs
     return led(Search(table, table), open_names(table), place_of(first), place_of(last))
 
 
@@ -103,7 +102,7 @@ def levels_of(table, row):
     for number in reversed(range(len(steps))):
         given, place = steps[number]
         if number > 0:
-            goals = open_goals(given, place)
+            goals = signs_at(place, table.signs)
         else:
             goals = [place_of(other) for other in table.rows] if row is None else []
         levels.append(level_at(search, given, place, goals, makers))
@@ -123,10 +122,10 @@ def steps_to(search, given, place):
     return found
 
 
-def open_goals(given, place):
-    """The signs at the column of a place that are no names yet, as places."""
-    column = place[0][0]
-    return [((column, name),) for name in range(len(given.names[column])) if name not in given.names[column]]
+def signs_at(place, signs):
+    """All signs at the column of a place, as places."""
+    column, _ = place[0]
+    return [((column, name),) for name in range(signs)]
 
 
 def level_at(search, given, place, goals, makers):
