@@ -5,7 +5,7 @@ from itertools import combinations, product
 from math import comb
 
 from tests.asking import Asking
-from tests.samples import (BENT, FAIR, FIVE, FOUR, KLEIN, NO_INTEGERS, NO_LISTS, SORTS, UNFAIR, all_lots, line, parts,
+from tests.samples import (BENT, FIVE, FOUR, KLEIN, NO_INTEGERS, NO_LISTS, SORTS, UNFAIR, all_lots, line, parts,
                            plain_circuits, plain_rank, shuffled, square_of)
 from toldorfree.circuits import equal_columns
 from toldorfree.errors import BadBlocks, BadNumber, NoRow, NotFair, OtherShape, TooMany

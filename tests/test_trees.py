@@ -8,6 +8,7 @@ from tests.asking import Asking
 from tests.samples import (BENT, FIVE, FOUR, GROUPS, KLEIN, NO_INTEGERS, NO_LISTS, UNFAIR, all_lots, bent, drawn,
                            four_points, glue_plainly, plain_classes, plain_fair, ring, shuffled, square_of)
 from tests.wholes import (LOOSE, SUMS4, TREES, TURNS, plain_cuts, plain_edges, plain_pieces, plain_splits, rest)
+from toldorfree.classes import class_shares
 from toldorfree.coarse import coarse_blocks, coarse_table
 from toldorfree.crossing import crossing_kind, third
 from toldorfree.cuts import class_column, crosses, cuts_of, is_split, splits_of, strong_splits
@@ -236,6 +237,7 @@ class OtherTablesTest(Asking):
                 self.assertEqual(splits_of(table), cuts_of(table))
             for lot in set(plain_cuts(table)) - set(plain_splits(table)):
                 self.assertLess(len(set(plain_classes(table, lot, rest(table, lot)))), table.signs)
+                self.assertEqual(sum(class_shares(table, lot, rest(table, lot))), table.signs)
 
     def test_columns_left_out_and_held(self):
         for table in TREES[::2]:
@@ -314,6 +316,8 @@ class ClassColumnsTest(Asking):
             if tree.edges and table.columns + len(tree.edges) <= 8:
                 names = {lot: numbers for lot, numbers in self.columns(table, tree.edges).items()}
                 larger = put_all(table, [class_column(table, edge) for edge in tree.edges])
+                self.assertEqual(Ranks(put_all(table, [class_column(table, edge) for edge in tree.edges[::-1]])).total,
+                                 Ranks(table).total)
                 self.assertEqual(larger.many, table.many)
                 self.assertEqual(plain_fair(larger), True) if table.many < 70 else self.assertTrue(Ranks(larger))
                 for piece in tree:

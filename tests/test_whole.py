@@ -33,7 +33,7 @@ from toldorfree.meeting import full_classes, meets, open_round
 from toldorfree.naming import Renaming, renamed
 from toldorfree.opposite import halves_alike, opposite_meet, seventh
 from toldorfree.pairing import is_paired, unpaired
-from toldorfree.partings import column_parting, least_lots, put_in
+from toldorfree.partings import least_lots, put_in
 from toldorfree.planes import is_plane, is_short_plane, line_table, plane_table, short_plane_table
 from toldorfree.putting import goes_in, greatest_silent, meeting_column, why_not
 from toldorfree.ranks import Ranks, closed_lots, hanging_parts, hangs_together
