@@ -106,7 +106,7 @@ def blocks_beside(table, base, choice, size):
 
     It is a dict by columns, without the fixed ones.
     """
-    parts = [tuple([entry[row[column]] for entry, column in zip(choice, base)]) for row in table.rows]
+    parts = [tuple([numbers[row[place]] for numbers, place in zip(choice, base)]) for row in table.rows]
     found = {}
     for column in range(table.columns):
         signs = [row[column] for row in table.rows]
